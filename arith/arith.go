@@ -1,0 +1,60 @@
+// Package arith: what several layers reckon alike, whatever kind of numbers they reckon with.
+package arith
+
+import (
+	"envelope/api"
+	"envelope/iv"
+)
+
+// Kind is a kind of numbers: how one is made of a float64, and its four operations.
+type Kind[T any] struct {
+	Of                 func(c float64) T
+	Add, Sub, Mul, Div func(a, b T) T
+}
+
+// Floats are the numbers of the machine. Products are rounded by name: else one may be fused with a sum.
+func Floats() Kind[float64] {
+	return Kind[float64]{
+		Of:  func(c float64) float64 { return c },
+		Add: func(a, b float64) float64 { return float64(a + b) },
+		Sub: func(a, b float64) float64 { return float64(a - b) },
+		Mul: func(a, b float64) float64 { return float64(a * b) },
+		Div: func(a, b float64) float64 { return float64(a / b) },
+	}
+}
+
+// Ivs are the numbers of chapter 2.
+func Ivs() Kind[api.Iv] {
+	return Kind[api.Iv]{Of: point, Add: iv.Add, Sub: iv.Sub, Mul: iv.Mul, Div: iv.Div}
+}
+
+func point(c float64) api.Iv { return api.Iv{Lo: c, Hi: c} }
+
+// Run tells what t's outputs are at x. It holds for tapes that tape.Check takes, with x as long as N.
+func (k Kind[T]) Run(t api.Tape, x []T) []T {
+	r := make([]T, len(t.Ops))
+	for i, o := range t.Ops {
+		r[i] = k.operation(o, x, r)
+	}
+	out := make([]T, len(t.Out))
+	for i, n := range t.Out {
+		out[i] = r[n]
+	}
+	return out
+}
+
+func (k Kind[T]) operation(o api.Op, x, r []T) T {
+	switch o.Kind {
+	case api.OConst:
+		return k.Of(o.C)
+	case api.OVar:
+		return x[o.A]
+	case api.OAdd:
+		return k.Add(r[o.A], r[o.B])
+	case api.OSub:
+		return k.Sub(r[o.A], r[o.B])
+	case api.OMul:
+		return k.Mul(r[o.A], r[o.B])
+	}
+	return k.Div(r[o.A], r[o.B])
+}
