@@ -58,3 +58,27 @@ func (k Kind[T]) operation(o api.Op, x, r []T) T {
 	}
 	return k.Div(r[o.A], r[o.B])
 }
+
+// Even tells whether each row has n.
+func Even[T any](rows [][]T, n int) bool {
+	for _, r := range rows {
+		if len(r) != n {
+			return false
+		}
+	}
+	return true
+}
+
+// Greatest tells the greatest of n numbers: it begins with the first one; another one is it, if it is greater. Of none it is 0.
+func Greatest(n int, of func(i int) float64) float64 {
+	if n < 1 {
+		return 0
+	}
+	g := of(0)
+	for i := 1; i < n; i++ {
+		if x := of(i); x > g {
+			g = x
+		}
+	}
+	return g
+}
