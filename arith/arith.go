@@ -59,6 +59,15 @@ func (k Kind[T]) operation(o api.Op, x, r []T) T {
 	return k.Div(r[o.A], r[o.B])
 }
 
+// Along tells at s the polynomial whose numbers are column i of z: one row at least, the power 0 first.
+func (k Kind[T]) Along(z [][]float64, i int, s T) T {
+	v := k.Of(z[len(z)-1][i])
+	for j := len(z) - 2; j >= 0; j-- {
+		v = k.Add(k.Mul(v, s), k.Of(z[j][i]))
+	}
+	return v
+}
+
 // Even tells whether each row has n.
 func Even[T any](rows [][]T, n int) bool {
 	for _, r := range rows {
