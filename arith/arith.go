@@ -2,6 +2,8 @@
 package arith
 
 import (
+	"math"
+
 	"envelope/api"
 	"envelope/iv"
 )
@@ -91,3 +93,23 @@ func Greatest(n int, of func(i int) float64) float64 {
 	}
 	return g
 }
+
+// Worst tells the greatest likewise; +Inf, if one is NaN: what is no number may be as great as any.
+func Worst(n int, of func(i int) float64) float64 {
+	none := false
+	g := Greatest(n, func(i int) float64 {
+		x := of(i)
+		none = none || x != x
+		return x
+	})
+	if none {
+		return math.Inf(1)
+	}
+	return g
+}
+
+// PowerOfTwo tells whether n is one, from 1 to most.
+func PowerOfTwo(n, most int) bool { return 1 <= n && n <= most && n&(n-1) == 0 }
+
+// Length tells how long so many ticks are: exactly, of a power of two.
+func Length(ticks int) float64 { return float64(ticks) / api.Ticks }
