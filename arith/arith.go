@@ -27,10 +27,11 @@ func Floats() Kind[float64] {
 
 // Ivs are the numbers of chapter 2.
 func Ivs() Kind[api.Iv] {
-	return Kind[api.Iv]{Of: point, Add: iv.Add, Sub: iv.Sub, Mul: iv.Mul, Div: iv.Div}
+	return Kind[api.Iv]{Of: Point, Add: iv.Add, Sub: iv.Sub, Mul: iv.Mul, Div: iv.Div}
 }
 
-func point(c float64) api.Iv { return api.Iv{Lo: c, Hi: c} }
+// Point tells the Iv of c alone.
+func Point(c float64) api.Iv { return api.Iv{Lo: c, Hi: c} }
 
 // Run tells what t's outputs are at x. It holds for tapes that tape.Check takes, with x as long as N.
 func (k Kind[T]) Run(t api.Tape, x []T) []T {
