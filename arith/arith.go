@@ -8,6 +8,9 @@ import (
 	"envelope/iv"
 )
 
+// mostStep is how many ticks a step has at most.
+const mostStep = 1 << 42
+
 // Kind is a kind of numbers: how one is made of a float64, and its four operations.
 type Kind[T any] struct {
 	Of                 func(c float64) T
@@ -111,6 +114,9 @@ func Worst(n int, of func(i int) float64) float64 {
 
 // PowerOfTwo tells whether n is one, from 1 to most.
 func PowerOfTwo(n, most int) bool { return 1 <= n && n <= most && n&(n-1) == 0 }
+
+// IsStep tells whether a step may be of so many ticks.
+func IsStep(ticks int) bool { return PowerOfTwo(ticks, mostStep) }
 
 // Length tells how long so many ticks are: exactly, of a power of two.
 func Length(ticks int) float64 { return float64(ticks) / api.Ticks }

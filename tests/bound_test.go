@@ -13,8 +13,8 @@ import (
 	"envelope/step"
 )
 
-// boundOf is chapter 11's words on Step; the number of tubes that were tried, too.
-func boundOf(p api.Problem, n api.Nord, y []float64, before float64) (bound.Parts, api.Errno, int) {
+// boundOf is chapter 11's words on Step; the number of tubes that were tried, too, and the last one.
+func boundOf(p api.Problem, n api.Nord, y []float64, before float64) (parts bound.Parts, e api.Errno, k int, tube []api.Iv) {
 	h := math.Ldexp(float64(n.Step), -30)
 	var q []api.Model
 	var jump, defect float64
@@ -38,34 +38,56 @@ func boundOf(p api.Problem, n api.Nord, y []float64, before float64) (bound.Part
 		defect = max(defect, iv.Mag(model.Range(model.Sub(f, d))))
 	}
 	if jump == inf || defect == inf {
-		return bound.Parts{}, api.Tube, 0
+		return bound.Parts{}, api.Tube, 0, nil
 	}
 	a := up(before + jump)
 	part := up(h * defect)
-	e := up(a + part)
-	r := up(4 * e)
+	err := up(a + part)
+	r := up(4 * err)
 	for k := 1; k <= 3; k++ {
-		var tube []api.Iv
+		tube = nil
 		for i := range q {
 			tube = append(tube, iv.Add(model.Range(q[i]), api.Iv{Lo: -r, Hi: r}))
+		}
+		for i := range q {
 			if !iv.Within(tube[i], p.Box[i]) {
-				return bound.Parts{}, api.LeftBox, k
+				return bound.Parts{}, api.LeftBox, k, tube
 			}
 		}
 		m, g := jac.Norm(jac.JacIv(p.Tape, tube)), 1.0
 		if m > 0 {
 			g = max(1, iv.Exp(up(h*m)))
 		}
-		b := up(g * e)
+		b := up(g * err)
 		if b < r {
-			return bound.Parts{Jump: jump, Defect: defect, Norm: m, Growth: g, Bound: b}, api.OK, k
+			return bound.Parts{Jump: jump, Defect: defect, Norm: m, Growth: g, Bound: b}, api.OK, k, tube
 		}
 		if b == inf {
-			return bound.Parts{}, api.Tube, k
+			return bound.Parts{}, api.Tube, k, tube
 		}
 		r = up(4 * b)
 	}
-	return bound.Parts{}, api.Tube, 4
+	return bound.Parts{}, api.Tube, 4, tube
+}
+
+// atBox holds the last tube against a box that it just fills, and one that is a number less.
+func atBox(t *testing.T, p api.Problem, n api.Nord, y []float64, before float64, want bound.Parts, tube []api.Iv) {
+	t.Helper()
+	p.Box = clone(tube)
+	if got, e := bound.Step(p, n, y, before); e != api.OK || got != want {
+		t.Fatalf("P1101: a box that the tube fills: %v, %v", got, e)
+	}
+	for i := range tube {
+		p.Box = clone(tube)
+		p.Box[i].Hi = down(p.Box[i].Hi)
+		_, e := bound.Step(p, n, y, before)
+		p.Box = clone(tube)
+		p.Box[i].Lo = up(p.Box[i].Lo)
+		_, also := bound.Step(p, n, y, before)
+		if e != api.LeftBox || also != api.LeftBox {
+			t.Fatalf("P1101: a box that the tube leaves: %v, %v", e, also)
+		}
+	}
 }
 
 func TestBoundWords(t *testing.T) {
@@ -98,9 +120,12 @@ func TestBoundWords(t *testing.T) {
 			}
 			before := math.Ldexp(float64(d.of(4)), -d.of(40))
 			got, e := bound.Step(p, tried.N, y, before)
-			want, wantE, k := boundOf(p, tried.N, y, before)
+			want, wantE, k, tube := boundOf(p, tried.N, y, before)
 			if e != wantE || shown(got, false) != shown(want, false) {
 				t.Fatalf("P1101: %v, %v, %v, %v: %v, %v, not %v, %v", p, tried.N, y, before, got, e, want, wantE)
+			}
+			if e == api.OK {
+				atBox(t, p, tried.N, y, before, want, tube)
 			}
 			seen[e]++
 			tubes[k]++

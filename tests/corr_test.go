@@ -226,6 +226,13 @@ func TestCorrMethod(t *testing.T) {
 }
 
 func TestCorrRules(t *testing.T) {
+	for count := range 3 { // too few rows
+		z := someRows(&dice{95}, count, 1, func() float64 { return 1 })
+		quiet(t, "few rows", func() {
+			corr.Solve(decay(1), z, make([]float64, count), 1, api.Adams, row(1))
+			corr.Solve(decay(1), z, make([]float64, count), 1, api.Bdf, row(1))
+		})
+	}
 	d := &dice{94}
 	for range 4000 {
 		p, method := wildTape(d), d.of(4)-1

@@ -10,6 +10,7 @@ import (
 	"envelope/ivp"
 	"envelope/nord"
 	"envelope/step"
+	"envelope/watch"
 )
 
 // endedOf is chapter 12's words on Go.
@@ -273,6 +274,37 @@ func TestSolveEnds(t *testing.T) {
 		if again := ivp.Go(p, got.Run, most); len(again.Outs) != 0 {
 			t.Errorf("P1202: told twice: %v", again)
 		}
+	}
+}
+
+// TestSolveEdges: what is due at a step's end is told there; a run that comes to its end exactly has ended; a bound that is Cap is not above it.
+func TestSolveEdges(t *testing.T) {
+	p := problem(api.Tape{N: 1, Ops: ops(constant(1)), Out: list(0)}, 3)
+	p.End, p.Most, p.Outs = 2*p.First, 2, list(0, p.First/2, p.First, p.First+1, 2*p.First)
+	one := ivp.Go(p, ivp.Begin(p), 1)
+	if len(one.Outs) != 3 || one.Run.Next != 3 || one.Outs[2].At != p.First || one.Outs[2].Y[0] != 3+math.Ldexp(1, -10) {
+		t.Errorf("P1202: at a step's end: %v", one)
+	}
+	whole := ivp.Solve(p)
+	if whole.E != api.OK || whole.Run.Attempts != 2 || whole.Run.S.N.At != p.End || len(whole.Outs) != 5 {
+		t.Errorf("P1202: to its end exactly: %v", whole)
+	}
+	if outs, e := watch.Watch(p, 5); e != api.OK || len(outs) != 5 {
+		t.Errorf("P1401: to its end exactly: %v, %v", outs, e)
+	}
+	if on := ivp.Go(p, whole.Run, 5); on.E != api.OK || shown(on.Run, false) != shown(whole.Run, false) || len(on.Outs) != 0 {
+		t.Errorf("P1202: on from its end: %v", on)
+	}
+	p.Cap = one.Run.Bound
+	if got := ivp.Go(p, ivp.Begin(p), 1); got.E != api.OK || len(got.Outs) != 3 {
+		t.Errorf("P1202: a bound of Cap: %v", got)
+	}
+	p.Cap = down(p.Cap)
+	got := ivp.Go(p, ivp.Begin(p), 1)
+	want := ivp.Begin(p)
+	want.Attempts, want.Next = 1, 1
+	if got.E != api.OverCap || len(got.Outs) != 1 || shown(got.Run, false) != shown(want, false) {
+		t.Errorf("P1202: a bound above Cap: %v", got)
 	}
 }
 

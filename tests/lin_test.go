@@ -190,7 +190,7 @@ func TestLinRules(t *testing.T) {
 	for _, x := range []struct {
 		l lin.Lu
 		b []float64
-	}{{lin.Lu{}, nil}, {lin.Lu{}, row(1)}, {lin.Lu{A: one}, row(1, 2)}, {lin.Lu{A: one, Perm: list(0, 2)}, row(1, 2)}, {lin.Lu{A: one, Perm: list(-1, 0)}, row(1, 2)}, {lin.Lu{A: one, Perm: list(0, 1)}, row(1)}, {lin.Lu{A: rows(row(1, 2), row(1)), Perm: list(0, 1)}, row(1, 2)}, {lin.Lu{A: one, Perm: list(0, 1, 1)}, row(1, 2)}} {
+	}{{lin.Lu{}, nil}, {lin.Lu{}, row(1)}, {lin.Lu{A: one}, row(1, 2)}, {lin.Lu{A: one, Perm: list(0, 2)}, row(1, 2)}, {lin.Lu{A: one, Perm: list(-1, 0)}, row(1, 2)}, {lin.Lu{A: one, Perm: list(0, 1)}, row(1)}, {lin.Lu{A: rows(row(1, 2), row(1)), Perm: list(0, 1)}, row(1, 2)}, {lin.Lu{A: one, Perm: list(0, 1, 1)}, row(1, 2)}, {lin.Lu{A: identity(1), Perm: list(0, 0)}, row(1, 2)}} {
 		quiet(t, "Solve", func() { lin.Solve(x.l, x.b) })
 	}
 	for _, a := range [][][]float64{nil, rows(nil), rows(row(1, 2)), one, rows(row(1, 2), row(1)), identity(9)} {

@@ -148,6 +148,21 @@ func TestNordRules(t *testing.T) {
 			return []any{nord.Predict(z), nord.Correct(z, l, by), nord.Rescale(z, 3), nord.Rescale(z, 0), nord.At(z, -0.5), nord.Start(p, by, 4)}
 		})
 	}
+	one, eight := someRows(d, 1, 2, d.any), someRows(d, 8, 2, d.any)
+	two := someRows(d, 2, 2, d.any)
+	for _, z := range [][][]float64{nil, one, eight, rows(row(1), row(1, 2))} { // refused, not clamped
+		if len(nord.Predict(z))+len(nord.Correct(z, make([]float64, len(z)), row(1, 1)))+len(nord.Rescale(z, 1))+len(nord.At(z, 0)) != 0 {
+			t.Errorf("P9: %d rows are taken", len(z))
+		}
+	}
+	if len(nord.Rescale(two, 41))+len(nord.Rescale(two, -41)) != 0 {
+		t.Error("P9: by 41")
+	}
+	for _, step := range list(0, 3, -1, 1<<43, math.MinInt) {
+		if got := nord.Start(turning(), row(1, 2), step); shown(got, false) != shown(api.Nord{}, false) {
+			t.Errorf("P9: a step of %d: %v", step, got)
+		}
+	}
 	for range 2000 {
 		var z [][]float64
 		for range d.of(9) {

@@ -203,6 +203,46 @@ func TestTryRefused(t *testing.T) {
 	}
 }
 
+// TestTryEdges: sizes of error that are just as great as they may be.
+func TestTryEdges(t *testing.T) {
+	p := problem(api.Tape{N: 1, Ops: ops(constant(1)), Out: list(0)}, 0)
+	p.First, p.Least, p.Rtol = 1<<20, 1<<10, 0
+	s := begun(p)
+	s.N.Z[1][0] = 0 // so all of the field's slope is added: 2^-10
+	s.Good = 2
+	for _, x := range []struct {
+		name        string
+		atol        float64
+		taken       bool
+		step, order int
+	}{
+		{"1", math.Ldexp(1, -11), true, p.First, 1},
+		{"above 1", down(math.Ldexp(1, -11)), false, p.First / 2, 1},
+		{"above 1/4", down(math.Ldexp(1, -9)), true, p.First, 1},
+		{"1/4", math.Ldexp(1, -9), true, p.First, 2},
+		{"above 1/16", down(math.Ldexp(1, -7)), true, p.First, 2},
+		{"1/16", math.Ldexp(1, -7), true, 2 * p.First, 1},
+	} {
+		p.Atol = x.atol
+		got := step.Try(p, s)
+		if got.Taken != x.taken || got.S.N.Step != x.step || got.S.N.Order != x.order {
+			t.Errorf("P1002: Err of %s: %v", x.name, got)
+		}
+	}
+	s.Good = 1 // no more than Order + 1 is not enough
+	if got := step.Try(p, s); got.S.Good != 2 || got.S.N.Step != p.First || got.S.N.Order != 1 {
+		t.Errorf("P1002: two good ones: %v", got)
+	}
+	s.Good, p.End = 2, p.First
+	if got := step.Try(p, s); got.S.N.Step != 2*p.First {
+		t.Errorf("P1002: a step of End: %v", got)
+	}
+	p.Atol, p.Least = 1e-9, p.First
+	if got := step.Try(p, s); got.E != api.TooSmall || got.Taken || !(got.Err > 1) {
+		t.Errorf("P1003: a step of Least: %v", got)
+	}
+}
+
 func TestTryEnds(t *testing.T) {
 	// 1 / y at 0, and y' = y of a step of one: no number, nothing to part
 	p := problem(api.Tape{N: 1, Ops: ops(load(0), constant(1), op(api.ODiv, 1, 0)), Out: list(2)}, 0)
